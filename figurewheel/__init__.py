@@ -1,0 +1,1 @@
+"""Figurewheel: rows of signs without end, told by figures."""

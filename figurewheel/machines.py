@@ -1,0 +1,82 @@
+"""Machines: how they are made, what they tell for letters, and rows of signs."""
+
+from figurewheel.errors import NoMachine
+from figurewheel.figures import figures_of, want_base
+
+MOST_ROOMS = 100
+MOST_LETTERS = 64
+GREATEST_SIGN = 9
+
+
+def want_counts(rows, signs):
+    if len(rows) == 0 or len(rows) > MOST_ROOMS:
+        raise NoMachine("rooms", len(rows))
+    if len(signs) != len(rows):
+        raise NoMachine("signs", len(signs))
+
+
+def want_letters(rows, room):
+    many = len(rows[room])
+    if many == 0 or many > MOST_LETTERS or many != len(rows[0]):
+        raise NoMachine("letters", room)
+
+
+def want_rooms(rows, room):
+    for number in rows[room]:
+        if number < 0 or number >= len(rows):
+            raise NoMachine("next", room)
+
+
+def want_signs(signs):
+    for index, sign in enumerate(signs):
+        if sign < 0 or sign > GREATEST_SIGN:
+            raise NoMachine("sign", index)
+
+
+def machine_of(rows, signs):
+    want_counts(rows, signs)
+    # Both are asked of one row ahead of the next row: a refusal tells the first row at fault.
+    for room in range(len(rows)):
+        want_letters(rows, room)
+        want_rooms(rows, room)
+    want_signs(signs)
+    if rows[0][0] != 0:
+        raise NoMachine("front", 0)
+    return (tuple([tuple(row) for row in rows]), tuple(signs))
+
+
+def room_of(machine, letters):
+    rows = machine[0]
+    room = 0
+    for letter in letters:
+        room = rows[room][letter]
+    return room
+
+
+def sign_of(machine, letters):
+    return machine[1][room_of(machine, letters)]
+
+
+def base_of(row):
+    base = len(row[0][0])
+    want_base(base)
+    return base
+
+
+def sign_at(row, place):
+    return sign_of(row, figures_of(place, base_of(row)))
+
+
+def first_signs(row, many):
+    # Of no places no sign is asked for, so the base is looked at here.
+    base = base_of(row)
+    return [sign_of(row, figures_of(place, base)) for place in range(many)]
+
+
+def teller(row):
+    base = base_of(row)
+
+    def tell(place):
+        return sign_of(row, figures_of(place, base))
+
+    return tell
