@@ -27,9 +27,13 @@ def want_rooms(rows, room):
             raise NoMachine("next", room)
 
 
+def is_sign(sign):
+    return sign >= 0 and sign <= GREATEST_SIGN
+
+
 def want_signs(signs):
     for index, sign in enumerate(signs):
-        if sign < 0 or sign > GREATEST_SIGN:
+        if not is_sign(sign):
             raise NoMachine("sign", index)
 
 

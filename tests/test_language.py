@@ -33,6 +33,17 @@ WORDS_NOWHERE = re.compile(
     r"\b(type|typing|typing_extensions|enum|Enum|IntEnum|StrEnum|Flag|IntFlag|Generic|Protocol|ABC|ABCMeta|namedtuple"
     r"|NamedTuple|TypedDict|TYPE_CHECKING|abstractmethod)\b|dataclass|overload|contextmanager"
 )
+KEYWORDS = {
+    "sorted": {"key", "reverse"}, "min": {"key", "default"}, "max": {"key", "default"}, "sum": {"start"},
+    "enumerate": {"start"}, "zip": {"strict"},
+}
+WALKED = {"zip", "enumerate", "reversed", "range"}
+WALKED_METHODS = {"items", "keys", "values"}
+WALKERS = {"list", "tuple", "dict", "sorted", "sum", "any", "all", "enumerate", "zip", "min", "max"}
+VALUE_NAMES = set("count index title find get join lower upper split strip copy add".split())
+NOT_VALUE_NAMES = {
+    name for kind in (str, int, list, dict, set, bytes, tuple, ValueError) for name in dir(kind)
+} - VALUE_NAMES
 NAMES_NOWHERE = {"register", "mro", "elements", "open", "input", "version_info", "with_traceback", "add_note"}
 
 
@@ -56,6 +67,33 @@ def bound_at_top(tree):
         if isinstance(node, ast.Assign):
             names += [target.id for target in node.targets]
     return names
+
+
+def called_name(node):
+    return node.func.id if isinstance(node, ast.Call) and isinstance(node.func, ast.Name) else None
+
+
+def is_walk(node):
+    if not isinstance(node, ast.Call):
+        return False
+    return called_name(node) in WALKED or isinstance(node.func, ast.Attribute) and node.func.attr in WALKED_METHODS
+
+
+def stands_in_a_walk(parent, node):
+    if isinstance(parent, (ast.For, ast.comprehension)):
+        return parent.iter is node
+    if called_name(parent) in WALKERS:
+        return node in parent.args
+    return isinstance(parent, ast.Call) and isinstance(parent.func, ast.Attribute) and parent.func.attr == "join"
+
+
+def stands_as_a_set(parents, node):
+    parent = parents[node]
+    while isinstance(parent, ast.BinOp):
+        node, parent = parent, parents[parent]
+    if isinstance(parent, ast.Compare):
+        return all(isinstance(op, (ast.In, ast.NotIn, ast.Eq, ast.NotEq)) for op in parent.ops)
+    return called_name(parent) in ("sorted", "len") and parent.keywords == []
 
 
 def drawn_in(tree):
@@ -176,6 +214,74 @@ class Language(unittest.TestCase):
         for where, node in self.each_node(ast.Call):
             if isinstance(node.func, ast.Attribute):
                 self.assertIn(node.func.attr, METHODS | own | UNDERSCORED, where)
+
+    def test_each_local_is_no_class_of_its_file(self):
+        for name, tree in self.trees.items():
+            classes = [node.name for node in ast.walk(tree) if isinstance(node, ast.ClassDef)]
+            bound = bound_in(tree)
+            for word in classes:
+                self.assertEqual(bound.count(word), 1, f"{name}: {word}")
+
+    def test_what_a_file_keeps_at_its_top(self):
+        for name, tree in self.trees.items():
+            for node in tree.body:
+                if isinstance(node, ast.Assign):
+                    for inner in ast.walk(node.value):
+                        self.assertNotIsInstance(inner, (ast.Set, ast.Call, ast.ListComp), name)
+                        if inner is not node.value:
+                            self.assertNotIsInstance(inner, (ast.List, ast.Dict), name)
+
+    def test_methods_and_values(self):
+        methods = [part.name for where, node in self.each_node(ast.ClassDef) for part in node.body
+                   if isinstance(part, ast.FunctionDef)]
+        for where, node in self.each_node(ast.Attribute):
+            if isinstance(node.ctx, ast.Store):
+                self.assertNotIn(node.attr, methods, where)
+                self.assertNotIn(node.attr, NOT_VALUE_NAMES, where)
+        for where, node in self.each_node(ast.ClassDef):
+            own = [part.name for part in node.body if isinstance(part, ast.FunctionDef)]
+            self.assertEqual(len(own), len(set(own)), where)
+
+    def test_keywords(self):
+        for where, node in self.each_node(ast.Call):
+            for keyword in node.keywords:
+                self.assertIn(keyword.arg, KEYWORDS.get(called_name(node), ()), where)
+
+    def test_python_s_own_are_called_and_walked_on_the_spot(self):
+        for name, tree in self.trees.items():
+            parents = {inner: node for node in ast.walk(tree) for inner in ast.iter_child_nodes(node)}
+            for node in parents:
+                where = f"{name}:{getattr(node, 'lineno', 0)}"
+                if isinstance(node, ast.Name) and node.id in OWN_NAMES and node.id[0].islower():
+                    parent = parents[node]
+                    asked = isinstance(parent, ast.Call) and (parent.func is node or called_name(parent) == "isinstance")
+                    self.assertTrue(asked or isinstance(parent, ast.keyword), where)
+                if is_walk(node):
+                    self.assertTrue(stands_in_a_walk(parents[node], node), where)
+                if called_name(node) == "set":
+                    self.assertTrue(stands_as_a_set(parents, node), where)
+                self.assertNotIsInstance(node, ast.Set, where)
+                self.assertNotEqual(called_name(node), "frozenset", where)
+
+    def test_what_is_walked_is_not_changed(self):
+        for where, node in self.each_node(ast.For):
+            walked = {inner.id for inner in ast.walk(node.iter) if isinstance(inner, ast.Name)}
+            for inner in (inner for part in node.body for inner in ast.walk(part)):
+                if isinstance(inner, ast.Call) and isinstance(inner.func, ast.Attribute):
+                    if inner.func.attr in ("append", "extend", "insert", "pop", "remove", "clear", "update"):
+                        self.assertNotIn(getattr(inner.func.value, "id", None), walked, where)
+
+    def test_errors(self):
+        for where, node in self.each_node(ast.Raise):
+            self.assertIsInstance(node.exc, ast.Call, where)
+        for where, node in self.each_node(ast.ExceptHandler):
+            self.assertIsInstance(node.type, ast.Name, where)
+            self.assertNotIn(node.type.id, ("Exception", "TypeError", "ValueError"), where)
+
+    def test_what_init_gives_back(self):
+        for where, node in self.each_node(ast.FunctionDef):
+            if node.name == "__init__":
+                self.assertFalse([inner for inner in ast.walk(node) if isinstance(inner, ast.Return)], where)
 
     def test_words_that_stand_nowhere(self):
         for name, text in self.texts.items():

@@ -1,0 +1,107 @@
+"""Machines for the tests, and slow but plain ways to the same answers."""
+
+import itertools
+import random
+
+from figurewheel.machines import machine_of
+
+SIXTY = 10 ** 60 - 1
+GREAT = [10 ** 59, SIXTY, 2 ** 199, 3 ** 120 + 1, 4 ** 99 - 1, 5 ** 85 - 1]
+
+
+def drawing(seed):
+    return random.Random(seed)
+
+
+def drawn_machine(draw, rooms, letters, signs=10):
+    rows = [[draw.randrange(rooms) for letter in range(letters)] for room in range(rooms)]
+    rows[0][0] = 0
+    return machine_of(rows, [draw.randrange(signs) for room in range(rooms)])
+
+
+def drawn_places(draw, many):
+    return [draw.randrange(10 ** draw.randrange(1, 61)) for index in range(many)]
+
+
+def short_lists(letters, longest):
+    for length in range(longest + 1):
+        for told in itertools.product(range(letters), repeat=length):
+            yield list(told)
+
+
+def drawn_list(draw, letters, length):
+    return [draw.randrange(letters) for index in range(length)]
+
+
+def adding(rooms, letters):
+    """A machine in which a letter leads so many rooms on, round and round."""
+    rows = [[(room + letter) % rooms for letter in range(letters)] for room in range(rooms)]
+    return machine_of(rows, [room * 7 % 10 for room in range(rooms)])
+
+
+def chain(rooms, letters, last=1):
+    """A machine whose rooms are parted by long lists alone: letter 1 leads on to the last room, others nowhere."""
+    rows = [[room, min(room + 1, rooms - 1)] + [room] * (letters - 2) for room in range(rooms)]
+    return machine_of(rows, [0] * (rooms - 1) + [last])
+
+
+def copied(draw, machine, times):
+    """Each room of the machine several times, with other numbers; alike with the machine."""
+    rows, signs = machine
+    many = len(rows)
+    others = list(range(1, many * times))
+    draw.shuffle(others)
+    numbers = [0] + others
+    made_rows = [None] * (many * times)
+    made_signs = [None] * (many * times)
+    for index in range(many * times):
+        led = [numbers[to + many * draw.randrange(times)] for to in rows[index % many]]
+        if index == 0:
+            led[0] = 0
+        made_rows[numbers[index]] = led
+        made_signs[numbers[index]] = signs[index % many]
+    return machine_of(made_rows, made_signs)
+
+
+def all_reached(machine):
+    """The rooms in the order of the first lists that lead to them."""
+    rows, signs = machine
+    rooms = [0]
+    for room in rooms:
+        for led in rows[room]:
+            if led not in rooms:
+                rooms.append(led)
+    return rooms
+
+
+def told_apart(machine):
+    """The pairs of rooms that some list of letters tells apart, found from the signs backwards."""
+    rows, signs = machine
+    pairs = list(itertools.combinations(range(len(rows)), 2))
+    apart = {pair for pair in pairs if signs[pair[0]] != signs[pair[1]]}
+    while True:
+        more = {
+            (one, other) for one, other in pairs if (one, other) not in apart
+            and any(tuple(sorted((a, b))) in apart for a, b in zip(rows[one], rows[other]))
+        }
+        if not more:
+            return apart
+        apart |= more
+
+
+def fewest_rooms(machine):
+    apart = told_apart(machine)
+    kept = []
+    for room in all_reached(machine):
+        if all(tuple(sorted((room, other))) in apart for other in kept):
+            kept.append(room)
+    return len(kept)
+
+
+def refusal_of(asked, *handed):
+    """The refusal that a call meets, or None."""
+    try:
+        asked(*handed)
+    except ValueError as error:
+        return error
+    return None
