@@ -70,3 +70,7 @@ def first_alike(machine):
 
 def least(machine):
     return reached_by(machine, first_alike(machine))
+
+
+def least_met(start, letters, lead, sign, most):
+    return least(machine_met(start, letters, lead, sign, most))

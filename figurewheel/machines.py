@@ -4,6 +4,7 @@ from figurewheel.errors import NoMachine
 from figurewheel.figures import figures_of, want_base
 
 MOST_ROOMS = 100
+FEWEST_LETTERS = 1
 MOST_LETTERS = 64
 GREATEST_SIGN = 9
 
@@ -15,9 +16,9 @@ def want_counts(rows, signs):
         raise NoMachine("signs", len(signs))
 
 
-def want_letters(rows, room):
+def want_letters(rows, room, fewest, most):
     many = len(rows[room])
-    if many == 0 or many > MOST_LETTERS or many != len(rows[0]):
+    if many < fewest or many > most or many != len(rows[0]):
         raise NoMachine("letters", room)
 
 
@@ -37,16 +38,24 @@ def want_signs(signs):
             raise NoMachine("sign", index)
 
 
-def machine_of(rows, signs):
+def want_parts(rows, signs, fewest, most):
     want_counts(rows, signs)
     # Both are asked of one row ahead of the next row: a refusal tells the first row at fault.
     for room in range(len(rows)):
-        want_letters(rows, room)
+        want_letters(rows, room, fewest, most)
         want_rooms(rows, room)
     want_signs(signs)
+
+
+def in_tuples(rows, signs):
+    return (tuple([tuple(row) for row in rows]), tuple(signs))
+
+
+def machine_of(rows, signs):
+    want_parts(rows, signs, FEWEST_LETTERS, MOST_LETTERS)
     if rows[0][0] != 0:
         raise NoMachine("front", 0)
-    return (tuple([tuple(row) for row in rows]), tuple(signs))
+    return in_tuples(rows, signs)
 
 
 def room_of(machine, letters):

@@ -45,6 +45,36 @@ def chain(rooms, letters, last=1):
     return machine_of(rows, [0] * (rooms - 1) + [last])
 
 
+def only_at(place, base):
+    """The row with sign 1 at that place alone: two rooms more than the place has figures."""
+    figures = []
+    while place > 0:
+        figures.insert(0, place % base)
+        place //= base
+    many = len(figures)
+    rows = [[many + 1] * base for room in range(many + 2)]
+    rows[0][0] = 0
+    for room, figure in enumerate(figures):
+        rows[room][figure] = room + 1
+    return machine_of(rows, [0] * many + [1, 0])
+
+
+def rest_by(many, base, signs=None):
+    """The row with a sign for the rest of each place by that number."""
+    rows = [[(base * room + figure) % many for figure in range(base)] for room in range(many)]
+    return machine_of(rows, [room % 10 for room in range(many)] if signs is None else signs)
+
+
+def drawn_back(draw, rooms, base, signs=10):
+    """A back machine: from each room the letter 0 leads to a room with the same sign."""
+    told = [draw.randrange(signs) for room in range(rooms)]
+    rows = []
+    for room in range(rooms):
+        likes = [other for other in range(rooms) if told[other] == told[room]]
+        rows.append(tuple([draw.choice(likes)] + [draw.randrange(rooms) for letter in range(base - 1)]))
+    return (tuple(rows), tuple(told))
+
+
 def copied(draw, machine, times):
     """Each room of the machine several times, with other numbers; alike with the machine."""
     rows, signs = machine

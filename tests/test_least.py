@@ -4,18 +4,9 @@ import unittest
 from figurewheel.least import as_reached, least
 from figurewheel.machines import machine_of, sign_of
 from tests.making import (
-    adding, all_reached, chain, copied, drawing, drawn_list, drawn_machine, fewest_rooms, short_lists, told_apart,
+    adding, all_reached, chain, copied, drawing, drawn_back, drawn_list, drawn_machine, fewest_rooms, short_lists,
+    told_apart,
 )
-
-
-def drawn_back(draw, rooms, base, signs=10):
-    """A back machine: from each room the letter 0 leads to a room with the same sign."""
-    told = [draw.randrange(signs) for room in range(rooms)]
-    rows = []
-    for room in range(rooms):
-        likes = [other for other in range(rooms) if told[other] == told[room]]
-        rows.append(tuple([draw.choice(likes)] + [draw.randrange(rooms) for letter in range(base - 1)]))
-    return (tuple(rows), tuple(told))
 
 
 class Alike(unittest.TestCase):
