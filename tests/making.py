@@ -3,6 +3,7 @@
 import itertools
 import random
 
+from figurewheel.least import least
 from figurewheel.machines import machine_of
 
 SIXTY = 10 ** 60 - 1
@@ -126,6 +127,35 @@ def fewest_rooms(machine):
         if all(tuple(sorted((room, other))) in apart for other in kept):
             kept.append(room)
     return len(kept)
+
+
+def is_relation(relation):
+    """Whether it is a relation by point 25, its machine in its least form and so numbered."""
+    base, names, machine = relation
+    rows, signs = machine
+    kinds = [type(part) for part in (relation, names, machine, rows, signs, rows[0])]
+    return (
+        kinds == [tuple] * 6 and list(names) == sorted(set(names)) and len(names) <= 4 and base ** len(names) <= 64
+        and all(len(row) == base ** len(names) for row in rows) and set(signs) <= {0, 1} and rows[0][0] == 0
+        and len(rows) <= 100 and all_reached(machine) == list(range(len(rows))) and least(machine) == machine
+    )
+
+
+def drawn_relation(draw, base, names, rooms):
+    return (base, tuple(names), least(drawn_machine(draw, rooms, base ** len(names), 2)))
+
+
+def pairs_met(one, other, columns):
+    """How many pairs of rooms two machines come to, which read the first and the second of each of the columns."""
+    met = [(0, 0)]
+    known = set(met)
+    for first, second in met:
+        for one_code, other_code in columns:
+            pair = (one[0][first][one_code], other[0][second][other_code])
+            if pair not in known:
+                known.add(pair)
+                met.append(pair)
+    return len(met)
 
 
 def refusal_of(asked, *handed):

@@ -227,7 +227,7 @@ class Language(unittest.TestCase):
             for node in tree.body:
                 if isinstance(node, ast.Assign):
                     for inner in ast.walk(node.value):
-                        self.assertNotIsInstance(inner, (ast.Set, ast.Call, ast.ListComp), name)
+                        self.assertIsInstance(inner, (ast.Constant, ast.Tuple, ast.List, ast.Dict, ast.Load), name)
                         if inner is not node.value:
                             self.assertNotIsInstance(inner, (ast.List, ast.Dict), name)
 
