@@ -4,7 +4,7 @@ from figurewheel.comparing import want_like
 from figurewheel.errors import TooGreat
 from figurewheel.figures import column_of, figures_of, want_base
 from figurewheel.least import least, least_met
-from figurewheel.machines import MOST_ROOMS, base_of
+from figurewheel.machines import base_of
 from figurewheel.relations import letters_for, paired, rising, want_width
 
 # A place's machine has two rooms more than the place has figures.
@@ -71,4 +71,4 @@ def place_is(base, name, place):
     def sign(many):
         return as_sign(many == len(figures))
 
-    return (base, (name,), least_met(0, base, lead, sign, MOST_ROOMS))
+    return (base, (name,), least_met(0, base, lead, sign, len(figures) + 2))

@@ -25,7 +25,7 @@ def want_width(base, names):
 
 
 def codes_within(base, names, part):
-    # Each code of a column for the names, led to the code of what stands there for those of the part.
+    # A machine of the part knows the figures of its own names alone: each code of all names is told as one of those.
     spots = [names.index(name) for name in part]
     codes = []
     for code in range(letters_for(base, names)):
@@ -35,7 +35,7 @@ def codes_within(base, names, part):
 
 
 def paired(base, one, one_names, other, other_names, sign):
-    # Both machines read side by side, each the figures of its own names; sign tells one sign for the signs of both.
+    # Names that both have are read by both at the same place, so the machines have to go side by side.
     names = rising(one_names + other_names)
     want_width(base, names)
     one_codes = codes_within(base, names, one_names)

@@ -6,7 +6,7 @@ from figurewheel.relations import codes_within, letters_for
 
 
 def codes_by_rest(base, names, rest):
-    # For each code of a column for the rest of the names, the codes with any figure for the name that is left out.
+    # The name that is left out may have any figure, so a column for the rest stands for several columns.
     codes = [[] for code in range(letters_for(base, rest))]
     for code, within in enumerate(codes_within(base, names, rest)):
         codes[within].append(code)
@@ -21,7 +21,7 @@ def led_rooms(rows, rooms, codes):
 
 
 def first_rooms(rows, codes):
-    # The place for the name may have more figures than all others, which are then led by 0s: so once round and again.
+    # The place for the name may have more figures than all others, and so be ahead of them by any number of figures.
     rooms = (0,)
     led = led_rooms(rows, rooms, codes)
     while led != rooms:

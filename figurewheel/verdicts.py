@@ -12,7 +12,7 @@ TWICE = "( not p = 0 and all u ( ( u < n or not u < n + p ) or some v ( u + p = 
 
 
 def verdict(row, word, text, name):
-    # The name's place, and p, whose least place goes first.
+    # The least length is wanted ahead of the least place, so it is sought first, whatever the place.
     base = base_of(row)
     relation = read_statement(text).relation(base, {"A": row})
     lengths = first_of(some(relation, name))

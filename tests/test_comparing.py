@@ -198,9 +198,11 @@ class ShowsAlike(unittest.TestCase):
 
     def test_numbers_below_0_stand_for_no_room(self):
         # -1 would index the last room: one with the same signs and led to like the pairs that are there.
-        self.assertFalse(self.shown(self.pairs + [(-1, 4)]))
-        self.assertFalse(self.shown(self.pairs + [(2, -1)]))
-        self.assertFalse(shows_alike(machine_of([[0, 0]], [1]), machine_of([[0, 0]], [1]), [(0, 0), (-1, -1)]))
+        self.assertFalse(self.shown(self.pairs + [(2, 4), (-1, 4)]))
+        self.assertFalse(self.shown(self.pairs + [(2, 4), (2, -1)]))
+        one = machine_of([[0, 0]], [1])
+        for pair in [(-1, 0), (0, -1), (-1, -1)]:
+            self.assertFalse(shows_alike(one, one, [(0, 0), pair]))
 
     def test_unlike_machines_have_no_such_list(self):
         one = machine_of([[0, 1], [1, 0]], [0, 1])
